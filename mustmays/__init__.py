@@ -1,0 +1,1 @@
+"""Mustmays: what must and may be, by hands with rules."""

@@ -1,0 +1,27 @@
+"""The interface: each name stands in the file under which it is listed, with the arguments listed there."""
+
+import importlib
+import inspect
+import unittest
+
+# Arguments behind a * are by name alone; those with = may be left out.
+FUNCTIONS = {
+    "sayingkinds": {"is_word": "thing", "is_saying": "thing", "is_plain_saying": "thing"},
+    "sayingparts": {"parts_of_saying": "saying", "letters_of": "saying", "hands_of": "saying", "depth_of": "saying"},
+    "atomkinds": {"core_of": "saying", "atoms_of": "saying", "sort_tells": "saying, sort"},
+    "holding": {"holds_at": "web, world, saying", "worlds_where": "web, saying"},
+    "sorts": {"sorts_of": "saying", "is_sort": "saying, thing", "part_told": "saying, sort, part",
+              "sort_at": "web, saying, world"},
+    "fitting": {"does_fit": "house, saying, hand, one, other", "bad_sorts": "house, saying"},
+}
+
+
+class Interface(unittest.TestCase):
+    def test_functions_stand_in_their_files(self):
+        for file, functions in FUNCTIONS.items():
+            module = importlib.import_module("mustmays." + file)
+            for name, arguments in functions.items():
+                found = getattr(module, name)
+                self.assertTrue(inspect.isfunction(found), name)
+                self.assertEqual(found.__module__, "mustmays." + file)
+                self.assertEqual(str(inspect.signature(found)), "(" + arguments + ")", name)

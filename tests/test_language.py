@@ -1,0 +1,91 @@
+"""What can be seen of ../shared/LANGUAGE.md without much ado: sizes, signs, imports, and what isn't used."""
+
+import ast
+import pathlib
+import unittest
+
+FOLDER = pathlib.Path(__file__).resolve().parent.parent / "mustmays"
+BUILTINS = set(
+    "len range enumerate zip min max sum abs sorted reversed int str bool bytes list tuple dict set frozenset "
+    "isinstance ord repr any all divmod iter next map Exception ValueError TypeError KeyError IndexError "
+    "LookupError ZeroDivisionError ArithmeticError OverflowError RuntimeError NotImplementedError AttributeError "
+    "StopIteration NotImplemented True False None".split())
+BARRED = (
+    ast.AsyncFunctionDef, ast.AsyncFor, ast.AsyncWith, ast.Await, ast.Global, ast.Div, ast.MatMult, ast.Pow,
+    ast.GeneratorExp)
+METHODS = set(
+    "append clear copy count endswith extend find get index insert isalnum isalpha isdigit islower isspace isupper "
+    "items join keys ljust lower lstrip partition pop remove replace reverse rfind rjust rpartition rsplit rstrip "
+    "setdefault split splitlines startswith strip update upper values zfill bit_length add discard".split())
+
+
+def trees():
+    for path in sorted(FOLDER.glob("*.py")):
+        yield path, path.read_text(encoding="utf-8")
+
+
+class Language(unittest.TestCase):
+    def test_nothing_else_in_the_folder(self):
+        others = [p.name for p in FOLDER.iterdir() if p.suffix != ".py" and p.name != "__pycache__"]
+        self.assertEqual(others, [])
+
+    def test_sizes_and_signs(self):
+        for path, text in trees():
+            lines = text.split("\n")
+            self.assertLessEqual(len(lines), 399, path)
+            self.assertTrue(all(len(line) <= 120 for line in lines), path)
+            self.assertTrue(all(sign == "\n" or " " <= sign <= "~" for sign in text), path)
+            for node in ast.walk(ast.parse(text)):
+                if isinstance(node, ast.FunctionDef):
+                    self.assertLessEqual(node.end_lineno - node.lineno + 1, 40, (path, node.name))
+                    self.assertEqual(node.decorator_list, [], (path, node.name))
+
+    def test_imports(self):
+        for path, text in trees():
+            tree = ast.parse(text)
+            for node in ast.walk(tree):
+                self.assertNotIsInstance(node, ast.Import, path)
+                if isinstance(node, ast.ImportFrom):
+                    self.assertIn(node, tree.body, path)
+                    self.assertTrue(node.module.startswith("mustmays."), path)
+                    home = FOLDER / (node.module.split(".")[1] + ".py")
+                    bound = {n.name for n in ast.parse(home.read_text()).body if hasattr(n, "name")}
+                    bound |= {t.id for n in ast.parse(home.read_text()).body if isinstance(n, ast.Assign)
+                              for t in n.targets}
+                    for name in node.names:
+                        self.assertIsNone(name.asname, path)
+                        self.assertIn(name.name, bound, path)
+
+    def test_each_import_is_used(self):
+        for path, text in trees():
+            tree = ast.parse(text)
+            used = {node.id for node in ast.walk(tree) if isinstance(node, ast.Name)}
+            for node in tree.body:
+                if isinstance(node, ast.ImportFrom):
+                    self.assertLessEqual({name.name for name in node.names}, used, path)
+
+    def test_names(self):
+        every_builtin = set(dir(__builtins__)) if not isinstance(__builtins__, dict) else set(__builtins__)
+        for path, text in trees():
+            tree = ast.parse(text)
+            bound = {node.id for node in ast.walk(tree) if isinstance(node, ast.Name)
+                     and isinstance(node.ctx, ast.Store)}
+            bound |= {node.arg for node in ast.walk(tree) if isinstance(node, ast.arg)}
+            self.assertEqual(bound & every_builtin, set(), path)
+            read = {node.id for node in ast.walk(tree) if isinstance(node, ast.Name)}
+            self.assertLessEqual(read & every_builtin, BUILTINS, path)
+
+    def test_what_is_not_used(self):
+        own = {node.name for _, text in trees() for node in ast.walk(ast.parse(text))
+               if isinstance(node, ast.FunctionDef)}
+        for path, text in trees():
+            for node in ast.walk(ast.parse(text)):
+                self.assertNotIsInstance(node, BARRED, (path, getattr(node, "lineno", 0)))
+                if isinstance(node, ast.Constant):
+                    self.assertNotIsInstance(node.value, float, path)
+                if isinstance(node, ast.Call) and isinstance(node.func, ast.Attribute):
+                    self.assertIn(node.func.attr, METHODS | own, (path, node.lineno))
+                if isinstance(node, ast.Compare):
+                    for operator, right in zip(node.ops, node.comparators):
+                        if isinstance(operator, (ast.Is, ast.IsNot)):
+                            self.assertIsInstance(right, ast.Constant, (path, node.lineno))
