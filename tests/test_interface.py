@@ -13,6 +13,14 @@ FUNCTIONS = {
     "sorts": {"sorts_of": "saying", "is_sort": "saying, thing", "part_told": "saying, sort, part",
               "sort_at": "web, saying, world"},
     "fitting": {"does_fit": "house, saying, hand, one, other", "bad_sorts": "house, saying"},
+    "tabling": {"outer_atoms": "sayings", "parting_row": "sayings, saying"},
+    "likeness": {"class_rounds": "web"},
+    "leastwebs": {"least_web": "web, *, start=None"},
+    "rounds": {"down_rounds": "house, saying"},
+    "againstwebs": {"left_web": "house, saying"},
+    "deciding": {"decided": "house, saying, *, most=400"},
+    "downpapers": {"down_paper": "house, saying"},
+    "ruleschemes": {"scheme_of": "house, hand, word, saying", "bridge_scheme": "house, one, other, saying"},
 }
 
 
