@@ -19,9 +19,17 @@ def decided(house, saying, *, most=MOST):
     if 1 << len(atoms_of(saying)) > most:
         raise NoMore(most)
     gone = GoneSorts(house, saying)
+    against = against_left(gone)
+    if against is None:
+        return ("down", gone_paper(gone))
+    return against
+
+
+def against_left(gone):
+    """("against", web, world) by a SORT that is LEFT and tells the SAYING false; None where there is none."""
     against = gone.left_false()
     if against == 0:
-        return ("down", gone_paper(gone))
+        return None
     world = bits_of(gone.left).index(first_bit(against))
     web, calls = least_web(web_left(gone), start=world)
     return ("against", web, calls[world])

@@ -20,15 +20,15 @@ def least_web(web, *, start=None):
 
 def worlds_reached(web, start):
     """The WORLDS to which rows of STEPS lead from a WORLD, itself too, rising."""
-    goals = [[] for _ in range(web[0])]
+    goals = {}
     for hand, pairs in web[1]:
         for x, y in pairs:
-            goals[x].append(y)
+            goals.setdefault(x, []).append(y)
     reached = {start: True}
     waiting = [start]
     while waiting:
         world = waiting.pop()
-        for goal in goals[world]:
+        for goal in goals.get(world, ()):
             if goal not in reached:
                 reached[goal] = True
                 waiting.append(goal)

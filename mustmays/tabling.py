@@ -30,9 +30,17 @@ def parting_row(sayings, saying):
     """None where a SAYING FOLLOWS from some; else the first ROW in which they all are true, it isn't."""
     atoms = outer_atoms([*sayings, saying])
     table = whole_table(atoms)
-    parting = table.where_false(core_of(saying))
-    for one in sayings:
-        parting &= table.where_true(core_of(one))
+    parting = parting_mask(table, [core_of(one) for one in sayings], core_of(saying))
     if parting == 0:
         return None
     return tuple(zip(atoms, table.truths_in(first_bit(parting))))
+
+
+def parting_mask(table, cores, core):
+    """The mask of the rows of a table in which all of some COREs are true, one isn't."""
+    parting = table.where_false(core)
+    for one in cores:
+        if parting == 0:
+            break
+        parting &= table.where_true(one)
+    return parting

@@ -20,10 +20,17 @@ FUNCTIONS = {
     "againstwebs": {"left_web": "house, saying"},
     "deciding": {"decided": "house, saying, *, most=400"},
     "downpapers": {"down_paper": "house, saying"},
+    "webkinds": {"is_web": "thing"},
+    "rulekinds": {"is_rules": "thing", "is_draft": "thing", "is_house": "thing", "lets_draft": "draft"},
+    "rulelacks": {"rule_lack": "web, hand, rules"},
+    "webchecker": {"lets_web": "house, thing"},
+    "showjudge": {"lets_showing": "house, thing, *, library=()"},
+    "answering": {"answered": "house, saying"},
+    "answerjudge": {"lets_answered": "house, saying, thing"},
+    "beneath": {"made_rules": "house, hand", "is_beneath": "one, other"},
+    "cutting": {"cut_web": "web, saying", "reached_web": "web, world"},
     "ruleschemes": {"scheme_of": "house, hand, word, saying", "bridge_scheme": "house, one, other, saying"},
 }
-
-
 class Interface(unittest.TestCase):
     def test_functions_stand_in_their_files(self):
         for file, functions in FUNCTIONS.items():

@@ -18,6 +18,12 @@ METHODS = set(
     "items join keys ljust lower lstrip partition pop remove replace reverse rfind rjust rpartition rsplit rstrip "
     "setdefault split splitlines startswith strip update upper values zfill bit_length add discard".split())
 
+BARRED_NAMES = set(
+    "register mro elements open input law version_info with_traceback add_note attrgetter breakpoint builtins compile "
+    "copyright credits delattr dir eval exec exit gc getattr globals hasattr help id importlib license locals "
+    "methodcaller os quit setattr super type vars sys format format_map typing enum args encode decode hex chr "
+    "property staticmethod classmethod".split())
+
 
 def trees():
     for path in sorted(FOLDER.glob("*.py")):
@@ -89,3 +95,64 @@ class Language(unittest.TestCase):
                     for operator, right in zip(node.ops, node.comparators):
                         if isinstance(operator, (ast.Is, ast.IsNot)):
                             self.assertIsInstance(right, ast.Constant, (path, node.lineno))
+
+    def test_names_that_are_barred(self):
+        for path, text in trees():
+            names = set()
+            for node in ast.walk(ast.parse(text)):
+                for kind, field in (
+                        (ast.Name, "id"), (ast.Attribute, "attr"), (ast.arg, "arg"), (ast.keyword, "arg"),
+                        (ast.FunctionDef, "name"), (ast.ClassDef, "name")):
+                    if isinstance(node, kind):
+                        names.add(getattr(node, field))
+                if isinstance(node, ast.Constant) and isinstance(node.value, str):
+                    self.assertNotIn("%", node.value, path)
+                    self.assertNotIn("type", node.value, path)
+            self.assertEqual(names & BARRED_NAMES, set(), path)
+            for name in names - {"__init__", "__eq__", "__ne__", "__len__", "__str__", None}:
+                self.assertFalse(name.startswith("__"), (path, name))
+
+    def test_no_attribute_has_the_name_of_a_method(self):
+        methods, attributes = set(), set()
+        for path, text in trees():
+            for node in ast.walk(ast.parse(text)):
+                if isinstance(node, ast.ClassDef):
+                    self.assertEqual(node.decorator_list, [], path)
+                    found = [part.name for part in node.body if isinstance(part, ast.FunctionDef)]
+                    self.assertEqual(len(found), len(set(found)), (path, node.name))
+                    methods |= set(found)
+                if isinstance(node, ast.Attribute) and isinstance(node.ctx, ast.Store):
+                    attributes.add(node.attr)
+        self.assertEqual(methods & attributes, set())
+        self.assertEqual((methods | attributes) & (METHODS - {"count", "index"}), set())
+
+    def test_errors_are_caught_by_own_names(self):
+        own = {node.name for node in ast.parse((FOLDER / "errors.py").read_text()).body
+               if isinstance(node, ast.ClassDef)}
+        for path, text in trees():
+            for node in ast.walk(ast.parse(text)):
+                if isinstance(node, ast.ExceptHandler):
+                    caught = node.type.elts if isinstance(node.type, ast.Tuple) else [node.type]
+                    self.assertLessEqual({name.id for name in caught}, own, path)
+                if isinstance(node, ast.Raise) and node.exc is not None:
+                    self.assertIn(node.exc.func.id, own, path)
+
+    def test_module_level(self):
+        for path, text in trees():
+            for node in ast.parse(text).body:
+                self.assertIsInstance(node, (
+                    ast.ImportFrom, ast.FunctionDef, ast.ClassDef, ast.Assign, ast.Expr), (path, node.lineno))
+                if isinstance(node, ast.Expr):
+                    self.assertIsInstance(node.value, ast.Constant, path)
+
+    def test_no_variable_has_the_name_of_a_class_or_an_import(self):
+        for path, text in trees():
+            tree = ast.parse(text)
+            named = {node.name for node in tree.body if isinstance(node, (ast.ClassDef, ast.FunctionDef))}
+            named |= {name.name for node in tree.body if isinstance(node, ast.ImportFrom) for name in node.names}
+            for node in ast.walk(tree):
+                if isinstance(node, ast.FunctionDef):
+                    inner = {part.id for part in ast.walk(node) if isinstance(part, ast.Name)
+                             and isinstance(part.ctx, ast.Store)}
+                    inner |= {part.arg for part in ast.walk(node) if isinstance(part, ast.arg)}
+                    self.assertEqual(inner & named, set(), (path, node.name))
