@@ -28,9 +28,27 @@ FUNCTIONS = {
     "answering": {"answered": "house, saying"},
     "answerjudge": {"lets_answered": "house, saying, thing"},
     "beneath": {"made_rules": "house, hand", "is_beneath": "one, other"},
+    "sayingtexts": {"saying_text": "saying"},
+    "sayingreadings": {"saying_read": "text"},
     "cutting": {"cut_web": "web, saying", "reached_web": "web, world"},
+    "booklogs": {"is_log": "thing"},
+    "booktexts": {"house_word": "house", "showing_text": "showing", "deed_line": "deed", "log_lines": "log"},
+    "bookreadings": {"read_house": "text", "read_showing": "text", "read_deed": "text", "read_log": "lines"},
     "ruleschemes": {"scheme_of": "house, hand, word, saying", "bridge_scheme": "house, one, other, saying"},
 }
+# Of each class what it is made of, and its methods; each stands in the class itself.
+CLASSES = {
+    "books": {"Book": {
+        "__init__": "house", "lay": "name, thing", "drop": "name", "add_hand": "hand", "bare": "hand",
+        "put": "hand, word",
+        "take": "hand, word", "bridge": "one, other", "unbridge": "one, other", "house": "", "showing_names": "",
+        "showing_kept": "name", "saying_kept": "name", "library": "", "ask": "saying",
+        "whole_showing": "name, *, most=400", "log": "", "elder": "k", "undo": "", "do_all": "deeds, *, keep=False",
+        "walks": "", "__len__": "", "__str__": "", "__eq__": "other", "__ne__": "other"}},
+    "bookdesk": {"Desk": {"__init__": "", "say": "asking"}},
+}
+
+
 class Interface(unittest.TestCase):
     def test_functions_stand_in_their_files(self):
         for file, functions in FUNCTIONS.items():
@@ -40,3 +58,16 @@ class Interface(unittest.TestCase):
                 self.assertTrue(inspect.isfunction(found), name)
                 self.assertEqual(found.__module__, "mustmays." + file)
                 self.assertEqual(str(inspect.signature(found)), "(" + arguments + ")", name)
+
+    def test_classes_and_their_methods_stand_in_their_files(self):
+        for file, classes in CLASSES.items():
+            module = importlib.import_module("mustmays." + file)
+            for name, methods in classes.items():
+                found = getattr(module, name)
+                self.assertTrue(inspect.isclass(found), name)
+                self.assertEqual(found.__module__, "mustmays." + file)
+                self.assertEqual(found.__mro__, (found, object))
+                for method, arguments in methods.items():
+                    self.assertIn(method, vars(found))
+                    wanted = "(self, " + arguments + ")" if arguments else "(self)"
+                    self.assertEqual(str(inspect.signature(vars(found)[method])), wanted, method)
