@@ -4,7 +4,7 @@ from mustmays.deciding import against_left
 from mustmays.fitting import hands_behind, must_masks, rules_of
 from mustmays.rounds import GoneSorts
 from mustmays.rulekinds import bridges_led
-from mustmays.ruleschemes import bridge_scheme, scheme_of
+from mustmays.ruleschemes import bridge_scheme, rule_said, scheme_of
 from mustmays.showjudge import musted
 from mustmays.truthtables import has_bit
 
@@ -27,13 +27,49 @@ def answered(house, saying):
     return ("shown", (*shown.rows, (saying, ("from", tuple(shown.bars)))))
 
 
-class ShownRows:
-    """Rows of a SHOWING that bars SORTS: bars has the numbers of the rows that do, loose the mask of the rest."""
+class RuleRows:
+    """Rows of a SHOWING in a HOUSE, its home; each method tells the number of a row of what it is asked for."""
+
+    def __init__(self, home):
+        self.home = home
+        self.rows = []
+
+    def by_rule(self, word, hand, body):
+        """The row of a SCHEME of a HAND."""
+        return self.noted(scheme_of(self.home, hand, word, body), ("rule", word, hand, body))
+
+    def by_bridge(self, one, other, body):
+        """The row of the SCHEME of a bridge."""
+        return self.noted(bridge_scheme(self.home, one, other, body), ("bridge", one, other, body))
+
+    def round_by_others(self, hand, body):
+        """The row of the SCHEME "round" of a HAND that has "back" and "on"."""
+        must = ("must", hand, body)
+        twice = self.by_rule("on", hand, body)
+        turned = self.followed(("so", ("not", ("must", hand, must)), ("not", must)), [twice])
+        led = self.noted(musted(self.rows[turned][0], hand, 1), ("must", turned, hand, 1))
+        back = self.by_rule("back", hand, must)
+        return self.followed(rule_said(hand, "round", body), [led, back])
+
+    def followed(self, saying, rows):
+        """The row of a SAYING that FOLLOWS from others."""
+        return self.noted(saying, ("from", tuple(sorted(set(rows)))))
+
+    def noted(self, saying, why):
+        """The number of the row of a SAYING, a new one where there is none."""
+        for k, row in enumerate(self.rows):
+            if row[0] == saying:
+                return k
+        self.rows.append((saying, why))
+        return len(self.rows) - 1
+
+
+class ShownRows(RuleRows):
+    """Rows that bar SORTS: bars has the numbers of the rows that do, loose the mask of the SORTS that aren't barred."""
 
     def __init__(self, home, table):
-        self.home = home
+        RuleRows.__init__(self, home)
         self.table = table
-        self.rows = []
         self.bars = []
         self.loose = table.full
 
@@ -98,36 +134,10 @@ class ShownRows:
         elif word == "back on":
             rows.append(self.round_by_others(one, body))
         for ahead, behind in bridges_led(self.home, one, hand):
-            rows.append(self.noted(
-                bridge_scheme(self.home, ahead, behind, gained), ("bridge", ahead, behind, gained)))
+            rows.append(self.by_bridge(ahead, behind, gained))
         if len(rows) < 2:
             return rows
         return [self.followed(("so", asked, ("must", hand, gained)), rows)]
-
-    def round_by_others(self, hand, body):
-        """The row of the SCHEME "round" of a HAND that has "back" and "on"."""
-        must = ("must", hand, body)
-        twice = self.by_rule("on", hand, body)
-        turned = self.followed(("so", ("not", ("must", hand, must)), ("not", must)), [twice])
-        led = self.noted(musted(self.rows[turned][0], hand, 1), ("must", turned, hand, 1))
-        back = self.by_rule("back", hand, must)
-        return self.followed(("so", ("not", must), ("must", hand, ("not", must))), [led, back])
-
-    def by_rule(self, word, hand, body):
-        """The row of a SCHEME of a HAND."""
-        return self.noted(scheme_of(self.home, hand, word, body), ("rule", word, hand, body))
-
-    def followed(self, saying, rows):
-        """The row of a SAYING that FOLLOWS from others."""
-        return self.noted(saying, ("from", tuple(sorted(set(rows)))))
-
-    def noted(self, saying, why):
-        """The number of the row of a SAYING, a new one where there is none."""
-        for k, row in enumerate(self.rows):
-            if row[0] == saying:
-                return k
-        self.rows.append((saying, why))
-        return len(self.rows) - 1
 
 
 def leads_of(house, table, at, hand):

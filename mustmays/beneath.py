@@ -29,10 +29,27 @@ def made_rules(house, hand):
 
 def is_beneath(one, other):
     """Whether one HOUSE is BENEATH the other."""
+    return beneath_fault(one, other) is None
+
+
+def beneath_fault(one, other):
+    """The word and the HAND by which one HOUSE isn't BENEATH the other; None where it is."""
     for hand, rules in one[0]:
         if rules_of(other, hand) is None:
-            return False
+            return ("hand", hand)
         made = made_rules(other, hand)
-        if not all([word in made for word in rules]):
-            return False
-    return all([bridges_led(other, ahead, behind) is not None for ahead, behind in one[1]])
+        for word in rules:
+            if word not in made:
+                return (word, hand)
+    bridge = unled_bridge(one, other)
+    if bridge is not None:
+        return ("bridge", bridge[0])
+    return None
+
+
+def unled_bridge(one, other):
+    """The first bridge of one HOUSE from whose one to whose other none lead in the other HOUSE; None where all do."""
+    for ahead, behind in one[1]:
+        if bridges_led(other, ahead, behind) is None:
+            return (ahead, behind)
+    return None

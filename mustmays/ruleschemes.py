@@ -8,6 +8,18 @@ def scheme_of(house, hand, word, saying):
     rules = rules_of(house, hand)
     if rules is None or word not in rules:
         return None
+    return rule_said(hand, word, saying)
+
+
+def bridge_scheme(house, one, other, saying):
+    """The SCHEME of a bridge of the HOUSE and a SAYING; None where there is no such bridge."""
+    if (one, other) not in house[1]:
+        return None
+    return bridge_said(one, other, saying)
+
+
+def rule_said(hand, word, saying):
+    """What a RULE of a HAND makes so of a SAYING, in whichever HOUSE."""
     must = ("must", hand, saying)
     if word == "step":
         return ("not", ("must", hand, ("or", ())))
@@ -22,8 +34,6 @@ def scheme_of(house, hand, word, saying):
     return ("so", ("must", hand, ("so", must, saying)), must)
 
 
-def bridge_scheme(house, one, other, saying):
-    """The SCHEME of a bridge of the HOUSE and a SAYING; None where there is no such bridge."""
-    if (one, other) not in house[1]:
-        return None
+def bridge_said(one, other, saying):
+    """What a bridge makes so of a SAYING, in whichever HOUSE."""
     return ("so", ("must", one, saying), ("must", other, saying))

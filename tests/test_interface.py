@@ -34,6 +34,17 @@ FUNCTIONS = {
     "booklogs": {"is_log": "thing"},
     "booktexts": {"house_word": "house", "showing_text": "showing", "deed_line": "deed", "log_lines": "log"},
     "bookreadings": {"read_house": "text", "read_showing": "text", "read_deed": "text", "read_log": "lines"},
+    "fewwords": {"in_few_words": "saying"},
+    "lettersput": {"letters_put": "saying, puts"},
+    "pairchecker": {"lets_pairs": "web, other, thing"},
+    "downchecker": {"lets_down": "house, saying, thing", "lets_against": "house, saying, thing",
+                    "lets_answer": "house, saying, thing"},
+    "showingsled": {"showing_led": "one, other, showing"},
+    "joininghouses": {"joined_house": "one, other", "house_of_hands": "house, hands",
+                      "web_beside": "one, other, web", "web_of_hands": "web, hands"},
+    "mustahead": {"must_ahead": "saying, hand", "web_behind": "web, hand, world"},
+    "grown": {"is_grown": "thing", "does_grow": "web, hand", "comes_true": "web, hand, world, saying",
+              "grown_led": "saying, hand", "grown_web": "web, hand"},
     "ruleschemes": {"scheme_of": "house, hand, word, saying", "bridge_scheme": "house, one, other, saying"},
 }
 # Of each class what it is made of, and its methods; each stands in the class itself.
