@@ -31,7 +31,7 @@ def lets_against(house, saying, thing):
 
 
 def lets_answer(house, saying, thing):
-    """"against" or "down", as a thing is let by; NoHand, NoPaper."""
+    """As which of both a thing is let by, "against" or "down"; NoHand, NoPaper."""
     check_hands(house, hands_of(saying))
     if isinstance(thing, tuple) and len(thing) == 3 and thing[0] == "against":
         lets_against(house, saying, thing[1:])

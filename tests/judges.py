@@ -335,3 +335,7 @@ def let_houses(seed, many, most_bridges=3):
                 house = more
         found.append(house)
     return found
+
+
+def is_pair_of(x):
+    return type(x) is tuple and len(x) == 2

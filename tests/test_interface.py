@@ -45,6 +45,14 @@ FUNCTIONS = {
     "mustahead": {"must_ahead": "saying, hand", "web_behind": "web, hand, world"},
     "grown": {"is_grown": "thing", "does_grow": "web, hand", "comes_true": "web, hand, world, saying",
               "grown_led": "saying, hand", "grown_web": "web, hand"},
+    "pushing": {"pushed_in": "saying"},
+    "tellingout": {"told_out": "saying"},
+    "tablechecker": {"lets_parting_row": "sayings, saying, thing"},
+    "smallwebs": {"first_against": "house, saying, *, worlds=2"},
+    "webpairs": {"pair_paper": "web, world, other, second", "parting_saying": "web, world, other, second"},
+    "partinghouses": {"parting_of": "one, other", "lets_parting": "one, other, thing"},
+    "selfaway": {"self_away": "saying, hand", "web_with_self": "web, hand"},
+    "replaying": {"replayed": "log"},
     "ruleschemes": {"scheme_of": "house, hand, word, saying", "bridge_scheme": "house, one, other, saying"},
 }
 # Of each class what it is made of, and its methods; each stands in the class itself.
