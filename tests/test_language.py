@@ -62,6 +62,16 @@ class Language(unittest.TestCase):
                         self.assertIsNone(name.asname, path)
                         self.assertIn(name.name, bound, path)
 
+    def test_no_two_files_import_from_each_other(self):
+        led = {}
+        for path, text in trees():
+            led[path.stem] = {
+                node.module.split(".")[1] for node in ast.parse(text).body if isinstance(node, ast.ImportFrom)}
+        while led:
+            ends = [name for name, others in led.items() if not others & set(led)]
+            self.assertNotEqual(ends, [], led)
+            led = {name: others for name, others in led.items() if name not in ends}
+
     def test_each_import_is_used(self):
         for path, text in trees():
             tree = ast.parse(text)

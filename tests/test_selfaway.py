@@ -39,6 +39,11 @@ class SelfAway(unittest.TestCase):
         for s in (must("k", A), may("k", A), A, no(A), T, F, so(A, B), both(A, must("k", B)), either(A)):
             self.check(s, "h", s)
 
+    def test_letters_that_are_called_as_the_hand(self):
+        self.check(("letter", "h"), "h", ("letter", "h"))
+        self.check(must("h", ("letter", "h")), "h", both(must("h", ("letter", "h")), ("letter", "h")))
+        self.check(("letter", "must"), "must", ("letter", "must"))
+
     def test_within_others(self):
         m = both(must("h", A), A)
         self.check(no(must("h", A)), "h", no(m))
